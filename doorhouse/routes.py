@@ -1,7 +1,7 @@
 """Routes: paths, patterns, and which route a path finds (DOC.md, stage 1)."""
 
 from doorhouse.errors import NoName, NoPath, NoRoutes, NoValues, NoVerb
-from doorhouse.values import are_unlike, is_name, is_number_value, is_word, is_written_number
+from doorhouse.values import are_named_rows, are_unlike, is_name, is_number_value, is_word, is_written_number
 
 VERBS = ("get", "post")
 MOST_PARTS = 5
@@ -78,11 +78,7 @@ def is_route(thing):
 
 def are_routes(thing):
     """Tell whether it is a tuple of routes, with names unlike."""
-    if not isinstance(thing, tuple) or not 1 <= len(thing) <= MOST_ROUTES:
-        return False
-    if not all([is_route(route) for route in thing]):
-        return False
-    return are_unlike([name for name, verb, pattern in thing])
+    return are_named_rows(thing, MOST_ROUTES, is_route)
 
 
 def check_routes(routes):

@@ -53,6 +53,12 @@ def is_value_sign(sign):
     return BLANK_CODE <= code <= LAST_CODE and code != PERCENT_CODE
 
 
+def sign_place(sign):
+    """Tell the place of a sign in the row of those that may stand in a text that is a value, 0 of the blank."""
+    code = ord(sign)
+    return code - BLANK_CODE - (1 if code > PERCENT_CODE else 0)
+
+
 def is_text_value(thing):
     """Tell whether it is one of the texts that values may be."""
     if not isinstance(thing, str) or len(thing) > MOST_TEXT:
@@ -77,3 +83,10 @@ def is_written_number(word):
 def are_unlike(texts):
     """Tell whether no two of these texts are the same."""
     return len(set(texts)) == len(texts)
+
+
+def are_named_rows(thing, most, is_row):
+    """Tell whether it is a tuple of one to most rows, each of them one by is_row, the names ahead in them unlike."""
+    if not isinstance(thing, tuple) or not 1 <= len(thing) <= most:
+        return False
+    return all([is_row(row) for row in thing]) and are_unlike([row[0] for row in thing])

@@ -1,12 +1,16 @@
 """What the tests have in common: things of any kind, and how a refusal is told exactly."""
 
-from doorhouse.errors import NoMarks
+from doorhouse.errors import Cannot, NoMarks
+from doorhouse.store import Store
+
+KINDS = (("item", (("name", "text"), ("many", "number"))), ("note", (("text", "text"),)))
 
 # Texts, numbers and others that stand within one another below.
 PLAIN_THINGS = (
     0, 1, -1, 9999, 10000, 10 ** 39, True, False, None,
     "", " ", "/", "//", "a", "a/b", "/a", "/a/", "get", "post", "GET", "\n", "\t", "/a\n", "/{a}", "{a}", "/{a:n}",
     "~" * 2000, "/" * 2000,
+    "<a/>", "<a b=\"c\">d</a>", "<a", "&lt;", "&", ">", "<a>" * 600, "{{a}}", "{{each a}}{{end}}", "{{each a}}", "{", "}}",
 )
 
 
@@ -28,17 +32,39 @@ def anything():
     things += [(["a", "get", "/"],), {"a": ("a", "get", "/")}, ("a", "get", "/"), ("/",), ["/a"]]
     things += [list(range(100)), tuple(range(100)), {str(at): at for at in range(100)}, (("a", "get", "/"),) * 100]
     things += [nested(depth) for depth in range(1, 11)]
-    things += [NoMarks(3)]
+    things += [("a", (), ()), (("a", (), ()),), [("a", (), ())], {"a": ({"b": 1},)}, {"a": ({"b": None},)}, {"A": 1}]
+    things += [KINDS, list(KINDS), KINDS[0], (("add", "note", "", ("x",)),), ("add", "note", "", ("x",))]
+    things += [("add",), ("number", "text"), ("remove", "item", 1), [("remove", "item", 1)], {"no": 1, "asker": "a"}]
+    things += objects() + [(thing,) for thing in objects()] + [{"a": thing} for thing in objects()]
     return things
 
 
+def objects():
+    """Tell a list of objects of the program's own classes."""
+    store = Store(KINDS)
+    store.done((("add", "note", "", ("x",)),))
+    return [NoMarks(3), Cannot(0), Store(KINDS), store]
+
+
+def tells(case, action, *places, **names):
+    """Tell what a call tells, and assert that it tells so again and changes nothing that is handed in."""
+    before = repr((places, names))
+    answer = action(*places, **names)
+    case.assertEqual(repr((places, names)), before)
+    case.assertEqual(action(*places, **names), answer)
+    case.assertEqual(repr((places, names)), before)
+    return answer
+
+
 def refuses(case, error, action, *places, **names):
-    """Assert that a call is refused with just this class, and changes nothing that is handed in."""
+    """Assert that a call is refused with just this class, and changes nothing that is handed in; tell the refusal."""
     before = repr((places, names))
     try:
-        told = action(*places, **names)
+        answer = action(*places, **names)
     except ValueError as refusal:
-        case.assertIs(type(refusal), error, (places, names))
+        caught = refusal
     else:
-        case.fail(f"{action.__name__} told {told!r} of {places!r}, {names!r}")
+        case.fail(f"{action.__name__} told {answer!r} of {places!r}, {names!r}")
+    case.assertIs(type(caught), error, (places, names))
     case.assertEqual(repr((places, names)), before)
+    return caught

@@ -30,6 +30,12 @@ BARRED_NODES = (
     # Classes of the later stages have ==, and there a list stands where a generator expression could.
     ast.GeneratorExp,
 )
+BUILTIN_METHODS = set("""
+    append clear copy count endswith extend find get index insert isalnum isalpha isdigit islower isspace isupper items
+    join keys ljust lower lstrip partition pop remove replace reverse rfind rjust rpartition rsplit rstrip setdefault
+    split splitlines startswith strip update upper values zfill bit_length title capitalize swapcase casefold center
+    expandtabs removeprefix removesuffix rindex isascii isdecimal isnumeric istitle isidentifier isprintable
+""".split())
 TOP_NODES = (ast.ImportFrom, ast.FunctionDef, ast.ClassDef, ast.Assign)
 
 
@@ -59,7 +65,8 @@ class Language(unittest.TestCase):
             yield file, text, ast.parse(text)
 
     def test_files(self):
-        self.assertGreaterEqual({file.name for file in files()}, {"__init__.py", "errors.py", "values.py", "routes.py"})
+        due = {"__init__.py", "errors.py", "values.py", "routes.py", "marks.py", "templates.py", "store.py"}
+        self.assertGreaterEqual({file.name for file in files()}, due)
         for thing in PACKAGE.rglob("*"):
             if "__pycache__" not in thing.parts and not thing.is_dir():
                 self.assertRegex(thing.name, r"^[a-z0-9_]+\.py$")
@@ -112,6 +119,35 @@ class Language(unittest.TestCase):
                     for sign, other in zip(node.ops, node.comparators):
                         if isinstance(sign, (ast.Is, ast.IsNot)):
                             self.assertTrue(isinstance(other, ast.Constant) and other.value in (None, True, False), file)
+
+    def test_methods_and_attributes(self):
+        methods, attributes, called, read = set(), set(), set(), set()
+        for _, _, tree in self.each():
+            for node in ast.walk(tree):
+                if isinstance(node, ast.ClassDef):
+                    own = [row.name for row in node.body if isinstance(row, ast.FunctionDef)]
+                    self.assertEqual(len(own), len(set(own)), node.name)
+                    methods.update(own)
+                    others = [row for row in node.body if not isinstance(row, ast.FunctionDef)]
+                    self.assertEqual(len(others), int(ast.get_docstring(node) is not None), node.name)
+                if isinstance(node, ast.Call) and isinstance(node.func, ast.Attribute):
+                    called.add(node.func.attr)
+                if isinstance(node, ast.Attribute):
+                    (read if isinstance(node.ctx, ast.Load) else attributes).add(node.attr)
+        self.assertEqual(methods & attributes, set())
+        self.assertLessEqual(called, methods | BUILTIN_METHODS)
+        self.assertLessEqual(read - called, attributes)
+        self.assertEqual((methods | attributes) & set(dir(str) + dir(list) + dir(dict)) - set(DUNDERS), set())
+
+    def test_no_module_hangs_on_itself(self):
+        needs = {}
+        for file, _, tree in self.each():
+            needs["doorhouse." + file.stem] = [node.module for node in tree.body if isinstance(node, ast.ImportFrom)]
+        while needs:
+            free = [name for name, others in needs.items() if not set(others) & set(needs)]
+            self.assertNotEqual(free, [], needs)
+            for name in free:
+                del needs[name]
 
     def test_names(self):
         for file, _, tree in self.each():

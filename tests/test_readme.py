@@ -1,5 +1,6 @@
 """What README.md shows is what the program tells."""
 
+import ast
 import pathlib
 import re
 import unittest
@@ -12,11 +13,17 @@ class Readme(unittest.TestCase):
         shown = 0
         for code in re.findall(r"```python\n(.*?)```", README.read_text("utf-8"), re.DOTALL):
             names = {}
-            exec(code, names)
-            for question, answer in re.findall(r"^(\S.*?) +# (.*)$", code, re.MULTILINE):
-                self.assertEqual(eval(question, names), eval(answer), question)
-                shown += 1
-        self.assertGreaterEqual(shown, 10)
+            # One behind the other, each once: what a store tells hangs on what was done ahead.
+            for row in ast.parse(code).body:
+                question = ast.get_source_segment(code, row)
+                if isinstance(row, ast.Expr):
+                    answer = code.split("\n")[row.end_lineno - 1][row.end_col_offset:].strip()
+                    self.assertTrue(answer.startswith("# "), question)
+                    self.assertEqual(eval(question, names), eval(answer[2:]), question)
+                    shown += 1
+                else:
+                    exec(question, names)
+        self.assertGreaterEqual(shown, 30)
 
 
 if __name__ == "__main__":
