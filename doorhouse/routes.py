@@ -78,7 +78,7 @@ def is_route(thing):
 
 def are_routes(thing):
     """Tell whether it is a tuple of routes, with names unlike."""
-    return are_named_rows(thing, MOST_ROUTES, is_route)
+    return are_named_rows(thing, 1, MOST_ROUTES, is_route)
 
 
 def check_routes(routes):

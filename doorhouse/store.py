@@ -1,8 +1,8 @@
 """A store: kinds, things, deeds, and all its versions (DOC.md, stage 3)."""
 
 from doorhouse.errors import Cannot, NoDeeds, NoKinds, NoVersion
-from doorhouse.values import (MOST_VALUE, are_named_rows, is_name, is_number, is_number_from, is_number_value,
-                              is_text_value)
+from doorhouse.values import (MOST_VALUE, are_named_rows, are_rising, is_name, is_name_or_empty, is_number,
+                              is_number_from, is_number_value, is_text_value)
 
 NUMBER = "number"
 TEXT = "text"
@@ -30,12 +30,12 @@ def is_kind(thing):
     if not isinstance(thing, tuple) or len(thing) != 2:
         return False
     name, fields = thing
-    return is_name(name) and are_named_rows(fields, MOST_FIELDS, is_field)
+    return is_name(name) and are_named_rows(fields, 1, MOST_FIELDS, is_field)
 
 
 def are_kinds(thing):
     """Tell whether it is a tuple of kinds, names unlike."""
-    return are_named_rows(thing, MOST_KINDS, is_kind)
+    return are_named_rows(thing, 1, MOST_KINDS, is_kind)
 
 
 def row_named(rows, name):
@@ -58,21 +58,35 @@ def are_values_of(fields, thing):
     return all([is_of_sort(value, sort) for value, (name, sort) in zip(thing, fields)])
 
 
-def is_owner(thing):
-    """Tell whether it is a name or the empty text."""
-    return thing == "" or is_name(thing)
-
-
 def is_thing_number(thing):
     """Tell whether it is a number that things may have."""
     return is_number(thing) and thing >= 1
 
 
+def is_thing(kinds, thing):
+    """Tell whether it is a tuple (kind, number, owner, values) of one of these kinds."""
+    if not isinstance(thing, tuple) or len(thing) != 4:
+        return False
+    name, number, owner, values = thing
+    kind = row_named(kinds, name)
+    return kind is not None and is_thing_number(number) and is_name_or_empty(owner) and are_values_of(kind[1], values)
+
+
+def are_things(kinds, thing):
+    """Tell whether it is a rising tuple of things of these kinds, no two of one kind and number."""
+    if not isinstance(thing, tuple) or not all([is_thing(kinds, row) for row in thing]):
+        return False
+    return are_rising([row[:2] for row in thing])
+
+
+def is_step(thing):
+    """Tell whether it is by how much a more may go."""
+    return is_number_from(thing, -MOST_VALUE, MOST_VALUE)
+
+
 def is_worth(deed, field, thing):
     """Tell whether it is what a change, or a more, of this field may have behind it."""
-    if deed == MORE:
-        return is_number_from(thing, -MOST_VALUE, MOST_VALUE)
-    return is_of_sort(thing, field[1])
+    return is_step(thing) if deed == MORE else is_of_sort(thing, field[1])
 
 
 def is_deed_of_field(fields, thing):
@@ -92,7 +106,7 @@ def is_deed(kinds, thing):
     if kind is None:
         return False
     if thing[0] == ADD:
-        return len(thing) == 4 and is_owner(thing[2]) and are_values_of(kind[1], thing[3])
+        return len(thing) == 4 and is_name_or_empty(thing[2]) and are_values_of(kind[1], thing[3])
     if thing[0] == REMOVE:
         return len(thing) == 3 and is_thing_number(thing[2])
     return thing[0] in (CHANGE, MORE) and is_deed_of_field(kind[1], thing)

@@ -199,11 +199,16 @@ def put_in_as_is(kind, text):
     return text
 
 
+def tree_of(parts, data):
+    """Tell the nodes of a template of these parts that is filled with data, or with numbers too great for data."""
+    return read_marks(laid_out(parts, data, put_in_safely))
+
+
 def filled_tree(template, data):
     """Tell the nodes of a template that is filled with data."""
     parts = parts_or_refused(template)
     check_data(data)
-    return read_marks(laid_out(parts, data, put_in_safely))
+    return tree_of(parts, data)
 
 
 def filled(template, data):

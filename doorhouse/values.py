@@ -42,6 +42,11 @@ def is_name(thing):
     return is_short_text(thing, LETTERS)
 
 
+def is_name_or_empty(thing):
+    """Tell whether it is a name or the empty text, as an owner is, and the field of a rule."""
+    return thing == "" or is_name(thing)
+
+
 def is_word(thing):
     """Tell whether it is a word."""
     return is_short_text(thing, WORD_SIGNS)
@@ -85,8 +90,13 @@ def are_unlike(texts):
     return len(set(texts)) == len(texts)
 
 
-def are_named_rows(thing, most, is_row):
-    """Tell whether it is a tuple of one to most rows, each of them one by is_row, the names ahead in them unlike."""
-    if not isinstance(thing, tuple) or not 1 <= len(thing) <= most:
+def are_rising(things):
+    """Tell whether each of these things, all of one sort, is greater than the one ahead."""
+    return all([ahead < behind for ahead, behind in zip(things, things[1:])])
+
+
+def are_named_rows(thing, least, most, is_row):
+    """Tell whether it is a tuple of least to most rows, each of them one by is_row, the names ahead in them unlike."""
+    if not isinstance(thing, tuple) or not least <= len(thing) <= most:
         return False
     return all([is_row(row) for row in thing]) and are_unlike([row[0] for row in thing])

@@ -5,6 +5,75 @@ from doorhouse.store import Store
 
 KINDS = (("item", (("name", "text"), ("many", "number"))), ("note", (("text", "text"),)))
 
+# A site with what sites may have: pages of all, of one and of both, each sort of deed, works that go up and down.
+SITE = {
+    "routes": (
+        ("home", "get", "/"),
+        ("item", "get", "/item/{no:n}"),
+        ("pair", "get", "/pair/{no:n}/{word}/{other:n}"),
+        ("put", "post", "/item"),
+        ("name", "post", "/item/{no:n}/name"),
+        ("drop", "post", "/item/{no:n}/drop"),
+        ("sell", "post", "/item/{no:n}/sell"),
+        ("pack", "post", "/{no:n}/{word}/{other:n}"),
+        ("write", "post", "/note"),
+        ("count", "post", "/item/{no:n}/many"),
+    ),
+    "kinds": (
+        ("item", (("name", "text"), ("many", "number"), ("sold", "number"))),
+        ("note", (("text", "text"),)),
+    ),
+    "rules": (
+        ("all", "see", "item", "name"),
+        ("known", "see", "item", "many"),
+        (("role", "clerk"), "see", "item", ""),
+        ("own", "see", "item", ""),
+        ("all", "see", "note", "text"),
+        ("known", "add", "item", ""),
+        ("all", "add", "note", ""),
+        ("own", "change", "item", "name"),
+        (("role", "clerk"), "change", "item", "many"),
+        ("own", "change", "item", "sold"),
+        ("own", "remove", "item", ""),
+        (("role", "boss"), "change", "item", ""),
+    ),
+    "people": (
+        ("ann", "pw-1", ()),
+        ("bob", "b0b", ("clerk",)),
+        ("cat", "-", ("boss", "clerk")),
+    ),
+    "pages": (
+        ("home", '<p>{{asker}}</p>{{each item}}<i to="/item/{{no}}">{{name}} {{many}} {{sold}}</i>{{end}}'
+                 '{{each note}}<q>{{text}}</q>{{end}}', (("item", "item", "all"), ("note", "note", "all"))),
+        ("item", '{{each it}}<i is="{{name}}">{{many}}/{{sold}}</i>{{end}}{{when no}}<n>{{no}}</n>{{end}}',
+         (("it", "item", "no"),)),
+        ("pair", "{{each one}}<a>{{name}}</a>{{end}}{{each two}}<b>{{text}}</b>{{end}}<c>{{word}}</c>",
+         (("one", "item", "no"), ("two", "note", "other"))),
+    ),
+    "forms": (
+        ("put", (("name", "text", 1, 12), ("many", "number", 0, 99), ("sold", "number", 0, 9999)), ("add", "item"), "home"),
+        ("name", (("to", "text", 0, 40),), ("change", "item", "no", "name"), "item"),
+        ("drop", (), ("remove", "item", "no"), "home"),
+        ("sell", (), ("work", "sell", "no"), "item"),
+        ("pack", (), ("work", "pack", "other"), "pair"),
+        ("write", (("text", "text", 0, 20),), ("add", "note"), "home"),
+        ("count", (("many", "number", 2, 9),), ("change", "item", "no", "many"), "item"),
+    ),
+    "works": (
+        ("sell", "item", (("sold", 1), ("many", -1))),
+        ("pack", "item", (("many", -2), ("sold", 5), ("many", -3), ("sold", -9), ("many", 0))),
+    ),
+}
+
+# What a house of that site could have: of each owner, with a blank and the marks' own signs in it.
+THINGS = (
+    ("item", 1, "ann", ("pen", 5, 0)),
+    ("item", 2, "bob", ('a "b" <c> & d', 0, 9999)),
+    ("item", 7, "", ("", 1, 2)),
+    ("note", 1, "", ("hi",)),
+    ("note", 2, "cat", ("",)),
+)
+
 # Texts, numbers and others that stand within one another below.
 PLAIN_THINGS = (
     0, 1, -1, 9999, 10000, 10 ** 39, True, False, None,

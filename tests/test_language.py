@@ -65,7 +65,8 @@ class Language(unittest.TestCase):
             yield file, text, ast.parse(text)
 
     def test_files(self):
-        due = {"__init__.py", "errors.py", "values.py", "routes.py", "marks.py", "templates.py", "store.py"}
+        due = {"__init__.py", "errors.py", "values.py", "routes.py", "marks.py", "templates.py", "store.py",
+               "rights.py", "sites.py", "pages.py"}
         self.assertGreaterEqual({file.name for file in files()}, due)
         for thing in PACKAGE.rglob("*"):
             if "__pycache__" not in thing.parts and not thing.is_dir():

@@ -3,8 +3,8 @@
 import string
 import unittest
 
-from doorhouse.values import (are_unlike, is_name, is_number, is_number_from, is_text_value, is_value, is_word,
-                              is_written_number)
+from doorhouse.values import (are_named_rows, are_rising, are_unlike, is_name, is_name_or_empty, is_number, is_number_from,
+                              is_text_value, is_value, is_word, is_written_number)
 from tests.helper import anything
 
 KINDS = (is_number, is_name, is_word, is_value)
@@ -29,6 +29,10 @@ class Texts(unittest.TestCase):
             self.assertIs(is_name(thing), True, thing)
         for thing in ("", "abcdefghi", "A", "a1", "1", "a-b", "-", " a", "a ", "a\n", "\t", "a_b", "{a}", "`"):
             self.assertIs(is_name(thing), False, thing)
+
+    def test_names_or_empty(self):
+        for thing in ["", "a", "abcdefgh", "A", " ", None, 0, False, (), [], *anything()]:
+            self.assertIs(is_name_or_empty(thing), is_name(thing) or (isinstance(thing, str) and thing == ""), thing)
 
     def test_words(self):
         for thing in ("a", "0", "-", "abcdefgh", "12345678", "--------", "a-1", "007"):
@@ -84,6 +88,25 @@ class Unlike(unittest.TestCase):
     def test_texts(self):
         for texts, told in (([], True), (["a"], True), (["a", "b"], True), (["a", "b", "a"], False)):
             self.assertIs(are_unlike(texts), told, texts)
+
+
+class Rising(unittest.TestCase):
+    def test_each_is_greater_than_the_one_ahead(self):
+        for things, told in (((), True), (("a",), True), (("a", "aa", "b"), True), (("a", "a"), False), (("a", "c", "b"), False),
+                             ([("a", 9), ("a", 10)], True), ([("a", 1), ("a", 1)], False)):
+            self.assertIs(are_rising(things), told, things)
+
+
+class NamedRows(unittest.TestCase):
+    def test_least_to_most_rows_with_unlike_names(self):
+        def is_row(thing):
+            return isinstance(thing, tuple) and len(thing) == 1
+
+        rows = (("a",), ("b",), ("c",))
+        for thing, told in ((rows, True), (rows[:2], True), (rows[:1], False), (rows + (("d",),), False), (rows[:1] * 2, False),
+                            (list(rows), False), (rows[:2] + ((),), False), (None, False)):
+            self.assertIs(are_named_rows(thing, 2, 3, is_row), told, thing)
+        self.assertIs(are_named_rows((), 0, 3, is_row), True)
 
 
 if __name__ == "__main__":
