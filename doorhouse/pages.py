@@ -3,8 +3,8 @@
 from doorhouse.errors import NoSite
 from doorhouse.marks import show_marks
 from doorhouse.rights import ALL, check_asker, check_things, name_of, things_seen
-from doorhouse.routes import check_path, find_route
-from doorhouse.sites import GET, is_site
+from doorhouse.routes import GET, check_path, find_route
+from doorhouse.sites import is_site
 from doorhouse.store import NUMBER_NAME, row_named
 from doorhouse.templates import read_template, tree_of
 

@@ -3,7 +3,9 @@
 from doorhouse.errors import NoName, NoPath, NoRoutes, NoValues, NoVerb
 from doorhouse.values import are_named_rows, are_unlike, is_name, is_number_value, is_word, is_written_number
 
-VERBS = ("get", "post")
+GET = "get"
+POST = "post"
+VERBS = (GET, POST)
 MOST_PARTS = 5
 MOST_ROUTES = 10
 NUMBER_MARK = ":n"

@@ -1,14 +1,12 @@
 """Sites: what a site is, and the first of its names that is wrong (DOC.md, 5.1 and 5.2)."""
 
 from doorhouse.rights import ALL, are_people, are_rules
-from doorhouse.routes import NUMBER_HOLE, are_routes, holes_in, parts_of
+from doorhouse.routes import GET, NUMBER_HOLE, POST, are_routes, holes_in, parts_of
 from doorhouse.store import ADD, CHANGE, NUMBER, REMOVE, TEXT, are_kinds, is_step, row_named
 from doorhouse.templates import is_template
 from doorhouse.values import are_named_rows, is_name, is_number_value
 
-GET = "get"
-POST = "post"
-WORK = "work"
+WORK_DEED = "work"
 
 MOST_ASKS = 3
 MOST_FORM_FIELDS = 5
@@ -150,7 +148,7 @@ def is_form_deed(site, route, fields, thing):
         return is_form_add(site, fields, thing)
     if thing[0] == CHANGE:
         return is_form_change(site, route, fields, thing)
-    if thing[0] not in (REMOVE, WORK) or len(thing) != 3 or fields != ():
+    if thing[0] not in (REMOVE, WORK_DEED) or len(thing) != 3 or fields != ():
         return False
     rows = site["kinds"] if thing[0] == REMOVE else site["works"]
     return row_named(rows, thing[1]) is not None and is_number_hole(route, thing[2])

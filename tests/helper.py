@@ -1,6 +1,8 @@
 """What the tests have in common: things of any kind, and how a refusal is told exactly."""
 
+from doorhouse.desk import Desk
 from doorhouse.errors import Cannot, NoMarks
+from doorhouse.house import House
 from doorhouse.store import Store
 
 KINDS = (("item", (("name", "text"), ("many", "number"))), ("note", (("text", "text"),)))
@@ -112,7 +114,53 @@ def objects():
     """Tell a list of objects of the program's own classes."""
     store = Store(KINDS)
     store.done((("add", "note", "", ("x",)),))
-    return [NoMarks(3), Cannot(0), Store(KINDS), store]
+    house = House(SITE, keep=5)
+    house.ask(("come",))
+    house.wait(2)
+    return [NoMarks(3), Cannot(0), Store(KINDS), store, House(SITE), house, Desk(SITE)]
+
+
+def shown(house):
+    """Tell all that a house tells."""
+    store = house.store()
+    versions = [store.as_of(version) for version in range(store.version() + 1)]
+    return {
+        "now": house.now(), "versions": versions, "sessions": house.sessions(), "works": house.works(), "log": house.log(),
+        "answers": house.answers(), "line": house.line(), "len": len(house),
+    }
+
+
+def house_with(*entries, keep=0, idle=50, site=None):
+    """Tell a house that was asked and told these, one behind the other; a number alone is so many ticks."""
+    house = House(SITE if site is None else site, keep=keep, idle=idle)
+    for entry in entries:
+        if isinstance(entry, int):
+            house.wait(entry)
+        elif entry[0] == "work":
+            house.work(entry[1])
+        else:
+            house.ask(entry)
+    return house
+
+
+def get(session, path="/"):
+    return ("get", session, path)
+
+
+def post(session, path, ticket, **values):
+    return ("post", session, path, ticket, values)
+
+
+def put(session, ticket, name="pen", many=5, sold=0):
+    """Tell the post that adds an item."""
+    return post(session, "/item", ticket, name=name, many=many, sold=sold)
+
+
+# The first requests of many a test: sessions 4, 5 and 6 are those of ann, bob and cat, with a ticket 1 each.
+LOGINS = (
+    ("come",), ("come",), ("come",), ("login", 1, "ann", "pw-1"), ("login", 2, "bob", "b0b"), ("login", 3, "cat", "-"),
+    get(4), get(5), get(6),
+)
 
 
 def tells(case, action, *places, **names):

@@ -66,7 +66,7 @@ class Language(unittest.TestCase):
 
     def test_files(self):
         due = {"__init__.py", "errors.py", "values.py", "routes.py", "marks.py", "templates.py", "store.py",
-               "rights.py", "sites.py", "pages.py"}
+               "rights.py", "sites.py", "pages.py", "house.py", "lines.py", "desk.py"}
         self.assertGreaterEqual({file.name for file in files()}, due)
         for thing in PACKAGE.rglob("*"):
             if "__pycache__" not in thing.parts and not thing.is_dir():

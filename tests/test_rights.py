@@ -158,6 +158,11 @@ class Lets(unittest.TestCase):
         self.assertEqual(lets(RULES, ANN, "remove", "item", owner="ann"), 6)
         self.assertIsNone(lets(RULES, ANN, "remove", "item", "", "bob"))
         self.assertEqual(lets(owner="x", field="many", kind="item", deed="change", asker=BOB, rules=RULES), 5)
+        # What is left out is the empty text, no name.
+        for name in "abcxyz":
+            self.assertIsNone(lets((("all", "see", "item", name),), None, "see", "item"))
+            self.assertIsNone(lets((("own", "see", "item", ""),), (name, ()), "see", "item"))
+            self.assertIsNone(lets((("own", "see", "item", ""),), (name, ()), "see", "item", "name"))
         for places in ((), (RULES,), (RULES, ANN), (RULES, ANN, "see")):
             with self.assertRaises(TypeError):
                 lets(*places)

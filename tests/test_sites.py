@@ -296,6 +296,7 @@ class Forms(Told):
             ("work", None, "no"), ("work", ["step"], "no"), ("work", "step", "word"), ("work", "step", "all"), ("work", "step", ("no",)),
             ("work", "step"), ("work", "step", "no", ""), ("work",), ["work", "step", "no"], (), None, "work", 5, {}, ("", "item", "no"),
             (None, "item", "no"), (["remove"], "item", "no"), ("see", "item", "no"), ("item", "remove", "no"), (True, "item", "no"),
+            ("see", "step", "no"), ("", "step", "no"), (None, "step", "no"), (["work"], "step", "no"), ("works", "step", "no"),
         ):
             self.told(with_deed((), deed), "forms")
         self.told({**with_deed((), ("work", "step", "no")), "works": ()}, "forms")
