@@ -24,7 +24,7 @@ def is_young(house, at, version):
 
 
 def least_version(house, at):
-    """Tell the version behind the last post, ahead of this place, by which its asker did something, 0 without one."""
+    """Tell the version behind the last post by the same asker ahead of this place that was done, 0 without one."""
     asker = house.traces[at][2]
     least = 0
     for entry, reply, trace in zip(house.entries[:at], house.replies, house.traces):

@@ -138,7 +138,19 @@ class Language(unittest.TestCase):
         self.assertEqual(methods & attributes, set())
         self.assertLessEqual(called, methods | BUILTIN_METHODS)
         self.assertLessEqual(read - called, attributes)
-        self.assertEqual((methods | attributes) & set(dir(str) + dir(list) + dir(dict)) - set(DUNDERS), set())
+        self.assertEqual((methods | attributes) & set(dir(str) + dir(list) + dir(dict) + dir(int) + dir(set) + dir(bytes)) - set(DUNDERS), set())
+
+    def test_what_is_iterated_at_once(self):
+        for file, _, tree in self.each():
+            due = []
+            for node in ast.walk(tree):
+                if isinstance(node, (ast.For, ast.comprehension)):
+                    due.append(node.iter)
+                elif isinstance(node, ast.Call) and isinstance(node.func, ast.Name) and node.func.id in ("list", "tuple", "dict", "sorted"):
+                    due += node.args[:1]
+            for node in ast.walk(tree):
+                if isinstance(node, ast.Call) and isinstance(node.func, ast.Name) and node.func.id in ("zip", "enumerate", "reversed", "range"):
+                    self.assertIn(node, due, (file, node.lineno))
 
     def test_no_module_hangs_on_itself(self):
         needs = {}

@@ -267,7 +267,7 @@ class HouseOf(unittest.TestCase):
         log = plain_log(ENTRIES)
         self.assertEqual(shown(house_of(SITE, log)), shown(house(keep=0, idle=50)))
         self.assertEqual(shown(house_of(log=log, site=SITE, idle=3, keep=2)), shown(house(keep=2, idle=3)))
-        self.assertEqual(shown(house_of(SITE, ())), shown(House(SITE)))
+        self.assertEqual(house_of(SITE, ()), House(SITE, keep=0, idle=50))
         for places in ((), (SITE,), (SITE, (), 0)):
             with self.assertRaises(TypeError):
                 house_of(*places)
